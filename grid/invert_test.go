@@ -262,7 +262,7 @@ func TestP2InverseIsNewMemory(t *testing.T) {
 }
 
 // Every k rows of a Generator can be inverted: all choices at small numbers.
-func TestRowsOfAGenerator(t *testing.T) {
+func TestP14RowsOfAGenerator(t *testing.T) {
 	for n := 1; n <= 7; n++ {
 		for k := 1; k <= n; k++ {
 			g, _ := grid.Generator(k, n)
@@ -282,7 +282,7 @@ func TestRowsOfAGenerator(t *testing.T) {
 }
 
 // The greatest Generators: many rows that are no unit rows.
-func TestRowsOfGreatGenerators(t *testing.T) {
+func TestP14RowsOfGreatGenerators(t *testing.T) {
 	r := rand.New(rand.NewSource(10))
 	for k := 1; k <= 32; k++ {
 		g, _ := grid.Generator(k, 32)
