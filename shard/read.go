@@ -1,6 +1,9 @@
 package shard
 
-import "mosaic/api"
+import (
+	"mosaic/api"
+	"mosaic/layout"
+)
 
 // tooShort is what a reader panics with where the bytes end too soon.
 type tooShort struct{}
@@ -36,16 +39,15 @@ func (r *reader) header() api.Header {
 	h.K, h.N, h.Index = r.number(1), r.number(1), r.number(1)
 	r.take(1)
 	h.Block, h.Length = r.number(2), r.number(4)
-	r.take(sumBytes)
+	r.take(layout.SumBytes)
 	return h
 }
 
 // goodFrame reads the next frame, and tells whether it is the one of that
 // number.
 func (r *reader) goodFrame(h api.Header, number int) bool {
-	found := r.take(frameBytes(h))
-	block := found[numberBytes : numberBytes+h.Block]
-	frame, _ := Frame(h.Index, number, block)
+	found := r.take(layout.FrameBytes(h.Params))
+	frame, _ := Frame(h.Index, number, layout.BlockOf(found))
 	return found == frame
 }
 
@@ -70,7 +72,7 @@ func readHeader(from *reader) (h api.Header, good bool) {
 		// What Head does not give back, byte for byte, is no header; of one
 		// that may not be it gives nothing.
 		head, _ := Head(h)
-		good = head == file[:headBytes]
+		good = head == file[:layout.HeadBytes]
 	})
 	return h, good
 }
@@ -79,7 +81,7 @@ func readHeader(from *reader) (h api.Header, good bool) {
 // those that are not good.
 func readBadFrames(from *reader, h api.Header) []int {
 	var bad []int
-	number, end := 0, stripes(h)
+	number, end := 0, layout.Stripes(h)
 	untilEnd(func() {
 		for ; number < end; number++ {
 			if !from.goodFrame(h, number) {
