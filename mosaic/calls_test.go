@@ -34,11 +34,17 @@ func callsOfEachKind(t *testing.T) []func(workers int) {
 	decodeCall := func(files ...string) func(int) {
 		return func(workers int) { mosaic.Decode(files, workers) }
 	}
+	repairCall := func(fail int, files ...string) func(int) {
+		return func(workers int) { mosaic.Repair(files, workers, fail) }
+	}
 	return []func(int){
 		encodeCall(params(3, 5, 4), stream), encodeCall(params(1, 1, 1), ""), encodeCall(params(0, 1, 1), stream),
 		encodeCall(params(1, 2, 1), strings.Repeat("x", api.MaxLength+1)),
 		decodeCall(files...), decodeCall(files[0]), decodeCall(files[0], files[1], files[2][:500]),
 		decodeCall(), decodeCall(files[0], encode(t, params(3, 5, 4), "x")[0]), decodeCall(make([]string, 33)...),
+		repairCall(0, files...), repairCall(-1, files[1:]...), repairCall(0, files[1:]...), repairCall(0, files[0]),
+		repairCall(0, files[0], files[1], files[2][:500]), repairCall(0), repairCall(0, make([]string, 33)...),
+		func(int) { mosaic.Verify(files) }, func(int) { mosaic.Verify(make([]string, 33)) },
 	}
 }
 
@@ -72,6 +78,7 @@ func TestP1AllGoroutinesEnd(t *testing.T) {
 func TestP1AnswersHangOnArgumentsAlone(t *testing.T) {
 	p, stream := params(3, 6, 5), noise(1234, 2)
 	files := encode(t, p, stream)
+	scans := scansOf(files)
 	var all sync.WaitGroup
 	for i := range 16 {
 		all.Go(func() {
@@ -83,6 +90,15 @@ func TestP1AnswersHangOnArgumentsAlone(t *testing.T) {
 			}
 			if got, number, errno := mosaic.Decode(files[:2], 1+i); got != "" || number != 0 || errno != api.ErrTooFew {
 				t.Errorf("call %d: Decode answers %q, %d, %d", i, got, number, errno)
+			}
+			if got, writes, errno := mosaic.Repair(files[:4], 1+i, -1); !slices.Equal(got, files) || writes != 2 || errno != api.OK {
+				t.Errorf("call %d: Repair answers %d files, %d, %d", i, len(got), writes, errno)
+			}
+			if got, stripe, errno := mosaic.Repair(files[:2], 1+i, 0); got != nil || stripe != 0 || errno != api.ErrTooFew {
+				t.Errorf("call %d: Repair answers %d files, %d, %d", i, len(got), stripe, errno)
+			}
+			if got, errno := mosaic.Verify(files); !slices.EqualFunc(got, scans, sameScan) || errno != api.OK {
+				t.Errorf("call %d: Verify answers %+v, %d", i, got, errno)
 			}
 		})
 	}
@@ -149,28 +165,63 @@ func TestP2FilesAreNewMemory(t *testing.T) {
 	}
 }
 
-// Any bytes, cut into files, against the document.
-func FuzzP1Decode(f *testing.F) {
+// seedBytes has f begin with files, whole and cut otherwise, and behind each
+// what is to be added.
+func seedBytes(f *testing.F, behind ...any) {
+	add := func(data string, size int, workers int) {
+		f.Add(append([]any{[]byte(data), size, workers}, behind...)...)
+	}
 	for _, p := range []api.Params{params(1, 1, 1), params(2, 3, 2), params(3, 4, 5)} {
 		for _, length := range []int{0, 1, 17} {
 			files, _ := mosaic.Encode(p, 1, noise(length, 5))
 			all := strings.Join(files, "")
-			f.Add([]byte(all), len(files[0]), 1)
-			f.Add([]byte(all[len(files[0])-3:]), len(files[0]), 16)
-			f.Add([]byte(all), 18, 0)
+			add(all, len(files[0]), 1)
+			add(all[len(files[0])-3:], len(files[0]), 16)
+			add(all, 18, 0)
 		}
 	}
+}
+
+// cutIntoFiles cuts bytes into files of one size.
+func cutIntoFiles(data []byte, size int) []string {
+	var files []string
+	for part := range slices.Chunk(data, 1+max(0, size-1)%4096) {
+		files = append(files, string(part))
+	}
+	return files
+}
+
+// Any bytes, cut into files, against the document.
+func FuzzP1Decode(f *testing.F) {
+	seedBytes(f)
 	f.Fuzz(func(t *testing.T, data []byte, size int, workers int) {
-		var files []string
-		for part := range slices.Chunk(data, 1+max(0, size-1)%4096) {
-			files = append(files, string(part))
-		}
+		files := cutIntoFiles(data, size)
 		want, stripe, errno := streamOf(files)
 		if workers < 1 || workers > 16 {
 			want, stripe, errno = "", 0, api.ErrParams
 		}
 		if got, number, told := mosaic.Decode(files, workers); got != want || number != stripe || told != errno {
 			t.Fatalf("%q, %d, %d, want %q, %d, %d", got, number, told, want, stripe, errno)
+		}
+	})
+}
+
+// Any bytes, cut into files, to be told of and repaired, against the document.
+func FuzzP1Repair(f *testing.F) {
+	seedBytes(f, 0)
+	seedBytes(f, 1)
+	f.Fuzz(func(t *testing.T, data []byte, size int, workers int, fail int) {
+		files := cutIntoFiles(data, size)
+		want, number, errno := repairOf(files, fail)
+		if workers < 1 || workers > 16 {
+			want, number, errno = nil, 0, api.ErrParams
+		}
+		got, told, gave := mosaic.Repair(files, workers, fail)
+		if !slices.Equal(got, want) || told != number || gave != errno || errno != api.OK && got != nil {
+			t.Fatalf("%q, %d, %d, want %q, %d, %d", got, told, gave, want, number, errno)
+		}
+		if len(files) <= 32 {
+			checkScans(t, files, scansOf(files))
 		}
 	})
 }

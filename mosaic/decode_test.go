@@ -282,17 +282,23 @@ func TestP11OneFrameFewer(t *testing.T) {
 	}
 }
 
+// twoSpoiled answers three files of 20 stripes, in each of some of which,
+// beginning with first, two have no good frame.
+func twoSpoiled(files []string, p api.Params, first int) []string {
+	damaged := slices.Clone(files)
+	for number := first; number < 20; number += 1 + number%3 {
+		damaged[number%3] = spoiled(damaged[number%3], p, number)
+		damaged[(number+1)%3] = spoiled(damaged[(number+1)%3], p, number)
+	}
+	return damaged
+}
+
 func TestP11LowestStripeIsTold(t *testing.T) {
 	p := params(2, 3, 2)
 	stream := noise(4*20, 5)
 	files := encode(t, p, stream)
 	for first := range 20 {
-		damaged := slices.Clone(files)
-		for number := first; number < 20; number += 1 + number%3 {
-			damaged[number%3] = spoiled(damaged[number%3], p, number)
-			damaged[(number+1)%3] = spoiled(damaged[(number+1)%3], p, number)
-		}
-		checkTooFew(t, stream[:4*first], first, damaged...)
+		checkTooFew(t, stream[:4*first], first, twoSpoiled(files, p, first)...)
 	}
 }
 
@@ -367,32 +373,51 @@ func drawnFile(r *rand.Rand, p api.Params, streams [][]string) string {
 	return file
 }
 
-// Files of two streams and what is left of them, in any order, against the
-// document.
-func TestP11Drawn(t *testing.T) {
-	r := rand.New(rand.NewSource(6))
-	var found [7]int
-	for range 1500 {
-		n := 1 + r.Intn(9)
-		p := params(1+r.Intn(n), n, 1+r.Intn(12))
-		length := r.Intn(5 * p.K * p.Block)
-		streams := [][]string{encode(t, p, noise(length, 1)), encode(t, p, noise(length, 2))}
-		var files []string
-		for range r.Intn(3 * n) {
-			files = append(files, drawnFile(r, p, streams))
-		}
-		if r.Intn(20) == 0 {
-			files = append(files, encode(t, p, noise(length+1, 3))[0])
-		}
-		want, stripe, errno := streamOf(files)
-		checkAnswer(t, want, stripe, errno, files...)
-		found[errno]++
+// drawnStreams draws parameters, and answers the files of two streams of one
+// length.
+func drawnStreams(t *testing.T, r *rand.Rand) (api.Params, [][]string) {
+	n := 1 + r.Intn(9)
+	p := params(1+r.Intn(n), n, 1+r.Intn(12))
+	length := r.Intn(5 * p.K * p.Block)
+	return p, [][]string{encode(t, p, noise(length, 1)), encode(t, p, noise(length, 2))}
+}
+
+// withStray answers files behind which now and then one stands that agrees with
+// none of them.
+func withStray(t *testing.T, r *rand.Rand, p api.Params, files []string) []string {
+	if r.Intn(20) > 0 {
+		return files
 	}
-	for _, errno := range []api.Errno{api.OK, api.ErrNoHeader, api.ErrDisagree, api.ErrTooFew} {
+	return append(files, encode(t, p, noise(5*p.K*p.Block, 3))[0])
+}
+
+// checkFound tells it where a drawn test has seen an answer too seldom.
+func checkFound(t *testing.T, found map[api.Errno]int, wanted ...api.Errno) {
+	t.Helper()
+	for _, errno := range wanted {
 		if found[errno] < 40 {
 			t.Errorf("too few of one kind: %v", found)
 		}
 	}
+}
+
+// Files of two streams and what is left of them, in any order, against the
+// document.
+func TestP11Drawn(t *testing.T) {
+	r := rand.New(rand.NewSource(6))
+	found := map[api.Errno]int{}
+	for range 1500 {
+		p, streams := drawnStreams(t, r)
+		var files []string
+		for range r.Intn(3 * p.N) {
+			files = append(files, drawnFile(r, p, streams))
+		}
+		files = withStray(t, r, p, files)
+		want, stripe, errno := streamOf(files)
+		checkAnswer(t, want, stripe, errno, files...)
+		found[errno]++
+	}
+	checkFound(t, found, api.OK, api.ErrNoHeader, api.ErrDisagree, api.ErrTooFew)
 }
 
 func TestP14DecodeDoesNotHangOnWorkers(t *testing.T) {

@@ -1,7 +1,7 @@
 package mosaic_test
 
-// What the document asks of Encode and Decode, written a second time: slowly,
-// byte by byte, and without the packages of the program.
+// What the document asks of the calls, written a second time: slowly, byte by
+// byte, and without the packages of the program.
 
 import (
 	"encoding/binary"
@@ -196,4 +196,53 @@ func streamOf(files []string) (string, int, api.Errno) {
 		stream += stripe
 	}
 	return stream[:all[0].Length], 0, api.OK
+}
+
+// scanOf is what Verify must tell of a file.
+func scanOf(file string) api.Scan {
+	if file == "" {
+		return api.Scan{State: api.Missing}
+	}
+	h, known := headerIn(file)
+	if !known {
+		return api.Scan{State: api.Unknown}
+	}
+	scan := api.Scan{State: api.Whole, Header: h}
+	end := 18
+	for number := 0; number*h.K*h.Block < h.Length; number++ {
+		if _, good := blockIn(file, h, number); !good {
+			scan.State = api.Damaged
+			scan.Bad = append(scan.Bad, number)
+		}
+		end += h.Block + 8
+	}
+	if len(file) > end {
+		scan.State, scan.Behind = api.Damaged, len(file)-end
+	}
+	return scan
+}
+
+// repairOf is what Repair must answer, for a number of workers that may be.
+func repairOf(files []string, fail int) ([]string, int, api.Errno) {
+	stream, stripe, errno := streamOf(files)
+	if errno != api.OK {
+		return nil, stripe, errno
+	}
+	var params api.Params
+	for _, file := range files {
+		if h, known := headerIn(file); known {
+			params = h.Params
+		}
+	}
+	made, writes := filesOf(params, stream), 0
+	for i := range made {
+		if i < len(files) && files[i] == made[i] {
+			continue
+		}
+		if writes == fail {
+			return nil, 0, api.ErrIO
+		}
+		writes++
+	}
+	return made, writes, api.OK
 }
